@@ -1,0 +1,1 @@
+"""Prices: a book, baskets, bills. The calls are answered by pricebook.bills.answers."""

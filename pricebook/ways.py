@@ -1,0 +1,65 @@
+"""Ways of using bundles and coupons: which may be gone, and the best one."""
+
+from pricebook.lines import lines_after_coupon, lines_before_coupons, pieces_left, total_of
+from pricebook.taxes import price_of_lines
+
+MOST_TIMES = 3
+
+
+def bundles_fit(book, basket, counts):
+    return min(pieces_left(book, basket, counts), default=0) >= 0
+
+
+def goes_with(book, coupons, number):
+    return not any([(earlier, number) in book.apart_pairs for earlier in coupons])
+
+
+# before are the lines before coupons.
+def when_holds(book, before, number):
+    return total_of(before) >= book.coupon_list[number - 1].when
+
+
+def may_be_gone(book, basket, counts, coupons):
+    if not bundles_fit(book, basket, counts):
+        return False
+    before = lines_before_coupons(book, basket, counts)
+    for place, number in enumerate(coupons):
+        if not goes_with(book, coupons[:place], number) or not when_holds(book, before, number):
+            return False
+    return True
+
+
+# How often each bundle may be taken, in the order that "compared number by number" asks for.
+def bundle_counts(book, basket):
+    found = [()]
+    for bundle in book.bundle_list:
+        longer = []
+        for counts in found:
+            longer.extend([counts + (times,) for times in range(MOST_TIMES + 1)])
+        found = longer
+    return [counts for counts in found if bundles_fit(book, basket, counts)]
+
+
+# All sets of coupons that go with these lines, each with the lines behind it. A set grows by its
+# greatest number out of one found earlier, so the sets stand in their order as numbers.
+def coupon_sets(book, before):
+    found = [((), before)]
+    for number, coupon in enumerate(book.coupon_list, start=1):
+        if when_holds(book, before, number):
+            fitting = [entry for entry in found if goes_with(book, entry[0], number)]
+            found = found + [
+                (coupons + (number,), lines_after_coupon(book, lines, coupon)) for coupons, lines in fitting
+            ]
+    return found
+
+
+# What is paid, how often bundles are taken, the coupons. Ways come in the order in which
+# equal ones are preferred, so only a better one takes the place of an earlier one.
+def best_way(book, basket):
+    best = None
+    for counts in bundle_counts(book, basket):
+        for coupons, lines in coupon_sets(book, lines_before_coupons(book, basket, counts)):
+            paid = price_of_lines(book, lines)
+            if best is None or (paid, len(coupons)) < (best[0], len(best[2])):
+                best = (paid, counts, coupons)
+    return best
