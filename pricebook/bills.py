@@ -1,6 +1,7 @@
 """The interface: a list of calls on one new object, and the list of their answers."""
 
-from pricebook.calls import Desk, answer_call, how_many_numbers, how_many_rows
+from pricebook.asking import Desk
+from pricebook.calls import answer_call, how_many_numbers, how_many_rows
 
 
 # The rows that begin at this place, each behind how many numbers it has.

@@ -57,6 +57,28 @@ class Book:
         self.settings = {}
 
 
+# Lines read later go on behind an item's last ones.
+def copied_item(item):
+    twin = Item(item.name, item.price, item.taxes)
+    twin.from_lines = list(item.from_lines)
+    twin.step_lines = list(item.step_lines)
+    twin.free = item.free
+    return twin
+
+
+# Taxes, bundles and coupons stay as told, so both books may have the same ones.
+def copied_book(book):
+    twin = Book()
+    twin.names = dict(book.names)
+    twin.tax_list = list(book.tax_list)
+    twin.item_list = [copied_item(item) for item in book.item_list]
+    twin.bundle_list = list(book.bundle_list)
+    twin.coupon_list = list(book.coupon_list)
+    twin.apart_pairs = list(book.apart_pairs)
+    twin.settings = dict(book.settings)
+    return twin
+
+
 def percent_rounding(book):
     return book.settings.get("round", USUAL_ROUNDING)
 

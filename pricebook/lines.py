@@ -52,7 +52,8 @@ def lines_after_coupon(book, lines, coupon):
     return [(line[0], line[1] - discount) for line, discount in zip(lines, discounts)]
 
 
-def lines_at_end(book, lines, coupons):
+def lines_at_end(book, basket, counts, coupons):
+    lines = lines_before_coupons(book, basket, counts)
     for number in coupons:
         lines = lines_after_coupon(book, lines, book.coupon_list[number - 1])
     return lines

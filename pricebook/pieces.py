@@ -18,11 +18,38 @@ def price_at(item, price_lines, pieces):
     return price
 
 
-def cost_of(item, pieces):
-    paid = how_many_paid(item, pieces)
+# What each of so many paid pieces costs.
+def paid_costs(item, paid):
     if len(item.step_lines) > 0:
-        return sum([price_at(item, item.step_lines, place) for place in range(1, paid + 1)])
-    return paid * price_at(item, item.from_lines, paid)
+        return [price_at(item, item.step_lines, place) for place in range(1, paid + 1)]
+    price = price_at(item, item.from_lines, paid)
+    return [price for place in range(paid)]
+
+
+def cost_of(item, pieces):
+    return sum(paid_costs(item, how_many_paid(item, pieces)))
+
+
+# The place counts from 0; in a last row that isn't full no piece is free.
+def is_free(item, pieces, place):
+    if item.free is None:
+        return False
+    size = item.free[1]
+    return place < pieces // size * size and place % size >= size - item.free[0]
+
+
+# What each piece costs, 0 for a free one.
+def piece_costs(item, pieces):
+    paid = paid_costs(item, how_many_paid(item, pieces))
+    costs = []
+    used = 0
+    for place in range(pieces):
+        if is_free(item, pieces, place):
+            costs.append(0)
+        else:
+            costs.append(paid[used])
+            used += 1
+    return costs
 
 
 # The number of pieces, from this one on, that costs least, and what it costs.

@@ -1,6 +1,6 @@
 """The book's one form."""
 
-from pricebook.words import bytes_of
+from pricebook.words import bytes_of_lines, line_of
 
 
 def tax_words(book, tax):
@@ -65,4 +65,4 @@ def form_rows(book):
 
 
 def one_form(book):
-    return bytes_of("".join([" ".join(words) + "\n" for words in form_rows(book)]))
+    return bytes_of_lines([line_of(words) for words in form_rows(book)])

@@ -1,6 +1,6 @@
 """Reading a book's text, word by word, up to its first wrong place."""
 
-from pricebook.book import Book, Bundle, Coupon, Item, Tax
+from pricebook.book import Book, Bundle, Coupon, Item, Tax, copied_book
 from pricebook.pieces import MOST_PIECES
 from pricebook.row import CANNOT_STAND, NOT_TOLD, TOLD_ALREADY, TOO_MANY, Row
 from pricebook.words import text_lines, words_of
@@ -27,7 +27,7 @@ def take_new_name(book, row):
     return name
 
 
-# The number of the tax, item or coupon whose name stands here.
+# The number of the tax, item, bundle or coupon whose name stands here.
 def take_told(book, row, kind):
     entry = book.names.get(row.take_name(), ("", 0))
     if entry[0] != kind:
@@ -206,3 +206,10 @@ def read_book(text):
     book = Book()
     read_lines(book, text)
     return book
+
+
+# The book with these lines behind its own; the book itself stays, also if they have a wrong place.
+def book_with(book, text):
+    longer = copied_book(book)
+    read_lines(longer, text)
+    return longer

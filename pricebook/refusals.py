@@ -21,9 +21,24 @@ class NotToBeGone(Exception):
     pass
 
 
-# -5 of read; check tells the place itself.
+# -5 of read and add; check tells the place itself, look its line.
 class WrongPlace(Exception):
     def __init__(self, line, place, why):
         self.line = line
         self.place = place
         self.why = why
+
+
+# -6
+class TaxHeld(Exception):
+    pass
+
+
+# -7
+class NoAmount(Exception):
+    pass
+
+
+# -8
+class NoWeight(Exception):
+    pass

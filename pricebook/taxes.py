@@ -56,3 +56,10 @@ def paid_for(book, due):
 
 def price_of_lines(book, lines):
     return paid_for(book, due_of(book, lines, taxes_of_lines(book, lines)))
+
+
+# What's paid for this amount of an item, alone.
+def paid_for_amount(book, item, amount):
+    found = taxes_of_amount(book, amount, item.tax_set)[1]
+    on_top = [found[number] for number in item.tax_set if book.tax_list[number - 1].on]
+    return paid_for(book, amount + sum(on_top))

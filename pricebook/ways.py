@@ -40,17 +40,27 @@ def bundle_counts(book, basket):
     return [counts for counts in found if bundles_fit(book, basket, counts)]
 
 
-# All sets of coupons that go with these lines, each with the lines behind it. A set grows by its
-# greatest number out of one found earlier, so the sets stand in their order as numbers.
+# All sets of coupons that go with these lines before coupons. A set grows by its greatest number
+# out of one found earlier, so the sets stand in their order as numbers.
 def coupon_sets(book, before):
-    found = [((), before)]
-    for number, coupon in enumerate(book.coupon_list, start=1):
+    found = [()]
+    for number in range(1, len(book.coupon_list) + 1):
         if when_holds(book, before, number):
-            fitting = [entry for entry in found if goes_with(book, entry[0], number)]
-            found = found + [
-                (coupons + (number,), lines_after_coupon(book, lines, coupon)) for coupons, lines in fitting
-            ]
+            found = found + [coupons + (number,) for coupons in found if goes_with(book, coupons, number)]
     return found
+
+
+# The lines at the end by each such set; all but its greatest number are a set found earlier.
+def lines_by_coupons(book, before):
+    found = {(): before}
+    for coupons in coupon_sets(book, before)[1:]:
+        found[coupons] = lines_after_coupon(book, found[coupons[:-1]], book.coupon_list[coupons[-1] - 1])
+    return found
+
+
+def how_many_ways(book, basket):
+    befores = [lines_before_coupons(book, basket, counts) for counts in bundle_counts(book, basket)]
+    return sum([len(coupon_sets(book, before)) for before in befores])
 
 
 # What is paid, how often bundles are taken, the coupons. Ways come in the order in which
@@ -58,7 +68,7 @@ def coupon_sets(book, before):
 def best_way(book, basket):
     best = None
     for counts in bundle_counts(book, basket):
-        for coupons, lines in coupon_sets(book, lines_before_coupons(book, basket, counts)):
+        for coupons, lines in lines_by_coupons(book, lines_before_coupons(book, basket, counts)).items():
             paid = price_of_lines(book, lines)
             if best is None or (paid, len(coupons)) < (best[0], len(best[2])):
                 best = (paid, counts, coupons)

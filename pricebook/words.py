@@ -33,8 +33,13 @@ def words_of(row):
     return [word for word in row.split(" ") if word != ""]
 
 
-def bytes_of(signs):
-    return [ord(sign) for sign in signs]
+def line_of(words):
+    return " ".join(words)
+
+
+# Every line is ended by byte 10, the last one too.
+def bytes_of_lines(lines):
+    return [ord(sign) for sign in "".join([line + "\n" for line in lines])]
 
 
 def is_name(word):

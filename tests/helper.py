@@ -8,11 +8,14 @@ A book is told to the model as a dict, not as a text.
 import itertools
 import math
 import random
+import re
 from fractions import Fraction
 
 from pricebook.bills import answers
 
 READ, CHECK, PRINT, NAMES, COST, CHEAP, BILL, TAXES, PRICE, BEST = range(10)
+ALL, SHARES, ROUND, NETS, PARTS, ADD, DROP, PIECES, SHOW, LOOK = range(10, 20)
+GREAT = 1000000000000000000
 
 
 def as_bytes(text):
@@ -51,6 +54,26 @@ def best(basket):
     return [BEST] + row(basket)
 
 
+def all_of(basket):
+    return [ALL] + row(basket)
+
+
+def shares(whole, weights):
+    return [SHARES, whole] + row(weights)
+
+
+def add(text):
+    return [ADD] + row(as_bytes(text))
+
+
+def show(basket, way):
+    return on_way(SHOW, basket, way)
+
+
+def look(text):
+    return [LOOK] + row(as_bytes(text))
+
+
 def split_answers(numbers):
     found = []
     place = 0
@@ -76,8 +99,39 @@ def ask_book(text, *calls):
     return found[1:]
 
 
+def as_text(answer):
+    """The text of an answer that is bytes."""
+    if answer[0] != 0:
+        raise AssertionError(answer)
+    return bytes(answer[1:]).decode("ascii")
+
+
 def printed(text):
-    return bytes(ask_book(text, [PRINT])[0][1:]).decode("ascii")
+    return as_text(ask_book(text, [PRINT])[0])
+
+
+def shown(text, basket, way):
+    return as_text(ask_book(text, show(basket, way))[0])
+
+
+def every_way(bundles, coupons):
+    """Every way with so many bundles and coupons, whether it may be gone or not: counts and coupons."""
+    numbers = range(1, coupons + 1)
+    for counts in itertools.product(range(4), repeat=bundles):
+        for size in range(coupons + 1):
+            for chosen in itertools.combinations(numbers, size):
+                yield list(counts), list(chosen)
+
+
+def priced_ways(text, basket, bundles, coupons):
+    """The ways that may be gone, each behind what price answers."""
+    ways = list(every_way(bundles, coupons))
+    found = []
+    for start in range(0, len(ways), 50):
+        some = ways[start:start + 50]
+        prices = ask_book(text, *[price(basket, counts + chosen) for counts, chosen in some])
+        found += [(answer[1], *way) for answer, way in zip(prices, some) if answer != [-4]]
+    return found
 
 
 # Books as dicts, and their texts.
@@ -368,14 +422,11 @@ def model_totals(book, lines):
 
 def model_ways(book, basket):
     """All ways that may be gone, with what is paid."""
-    numbers = range(1, len(book["coupons"]) + 1)
-    sets = [list(chosen) for size in range(len(numbers) + 1) for chosen in itertools.combinations(numbers, size)]
     found = []
-    for counts in itertools.product(range(4), repeat=len(book["bundles"])):
-        for coupons in sets:
-            lines = model_lines(book, basket, list(counts) + coupons)
-            if lines is not None:
-                found.append((model_totals(book, lines)[-1], list(counts), coupons))
+    for counts, coupons in every_way(len(book["bundles"]), len(book["coupons"])):
+        lines = model_lines(book, basket, counts + coupons)
+        if lines is not None:
+            found.append((model_totals(book, lines)[-1], counts, coupons))
     return found
 
 
@@ -401,3 +452,74 @@ def model_bill(book, basket, way):
 def model_taxes(book, basket, way):
     lines = model_lines(book, basket, way)
     return [-4] if lines is None else [0] + model_totals(book, lines)
+
+
+def model_paid(book, item, amount):
+    """What's paid for this amount of an item, alone."""
+    found = model_taxes_of(book, amount, item["taxes"])[1]
+    on_top = sum(much for k, much in found.items() if book["taxes"][k][2] == "on")
+    return model_round(book["cash"], Fraction(amount + on_top))
+
+
+def model_parts(book, item, amount):
+    bare, found = model_taxes_of(book, amount, item["taxes"])
+    pairs = [number for k in sorted(found) for number in (k + 1, found[k])]
+    return [0, bare, model_paid(book, item, amount)] + pairs
+
+
+def model_show(book, basket, way):
+    """The bill as a text, or None if the way may not be gone."""
+    lines = model_lines(book, basket, way)
+    if lines is None:
+        return None
+    names = [item["name"] for item in book["items"]]
+    *much, whole, due, paid = model_totals(book, lines)
+    text = "".join(f"has {name} {n}\n" for name, n in zip(names, basket) if n)
+    text += "".join(f"uses {bundle[0]} {n}\n" for bundle, n in zip(book["bundles"], way) if n)
+    text += "".join(f"with {book['coupons'][c - 1]['name']}\n" for c in way[len(book["bundles"]):])
+    text += "".join(f"line {names[k]} {amount}\n" for k, amount in lines)
+    text += "".join(f"tax {tax[0]} {n}\n" for tax, n in zip(book["taxes"], much))
+    return text + f"sum {whole}\ndue {due}\npay {paid}\n"
+
+
+def model_head(book, lines):
+    """The basket and the way of a head's lines, or the number of the first wrong one."""
+    names = {"has": [item["name"] for item in book["items"]],
+             "uses": [bundle[0] for bundle in book["bundles"]],
+             "with": [coupon["name"] for coupon in book["coupons"]]}
+    told = {"has": {}, "uses": {}, "with": {}}
+    most = {"has": 40, "uses": 3}
+    for number, line in enumerate(lines, start=1):
+        first, *others = re.findall("[^ ]+", line)
+        if len(others) != (1 if first == "with" else 2) or others[0] not in names[first]:
+            return number
+        which = names[first].index(others[0])
+        if first == "with":
+            if any(which <= other for other in told["with"]):
+                return number
+            told["with"][which] = 1
+        elif which in told[first] or others[1] not in map(str, range(1, most[first] + 1)):
+            return number
+        else:
+            told[first][which] = int(others[1])
+    basket = [told["has"].get(k, 0) for k in range(len(names["has"]))]
+    counts = [told["uses"].get(k, 0) for k in range(len(names["uses"]))]
+    return basket, counts + [k + 1 for k in told["with"]]
+
+
+def model_look(book, text):
+    """What look answers behind the 0; the text has one sign a byte."""
+    lines = text.split("\n")
+    if lines[-1] == "":
+        lines.pop()
+    heads = list(itertools.takewhile(lambda line: re.match(" *(has|uses|with)( |$)", line), lines))
+    told = model_head(book, heads)
+    if isinstance(told, int):
+        return told
+    right = model_show(book, *told)
+    if right is None:
+        return len(heads) + 1
+    for number, (line, want) in enumerate(itertools.zip_longest(lines, right.splitlines()), start=1):
+        if line != want:
+            return number
+    return 0

@@ -1,36 +1,14 @@
 """best, and promise 1: no way is paid with less than the best way."""
 
-import itertools
 import unittest
 
 from tests.helper import (
-    ask_book, best, best_answer, books, model_best, one_form, preference, price, some_basket,
+    ask_book, best, best_answer, books, model_best, one_form, preference, price, priced_ways, some_basket,
 )
 
 
 def best_of(text, basket):
     return ask_book(text, best(basket))[0]
-
-
-def all_ways(book):
-    """Every way, whether it may be gone or not."""
-    numbers = range(1, len(book["coupons"]) + 1)
-    for counts in itertools.product(range(4), repeat=len(book["bundles"])):
-        for size in range(len(numbers) + 1):
-            for coupons in itertools.combinations(numbers, size):
-                yield list(counts), list(coupons)
-
-
-def priced_ways(book, basket):
-    """The ways that may be gone, with what price answers."""
-    text = one_form(book)
-    ways = list(all_ways(book))
-    found = []
-    for start in range(0, len(ways), 50):
-        some = ways[start:start + 50]
-        prices = ask_book(text, *[price(basket, counts + coupons) for counts, coupons in some])
-        found += [(answer[1], *way) for answer, way in zip(prices, some) if answer != [-4]]
-    return found
 
 
 class Best(unittest.TestCase):
@@ -123,7 +101,7 @@ class Promise1(unittest.TestCase):
         for book, chance in books(10, 40, most_bundles=2, most_coupons=4):
             basket = some_basket(chance, book, 8)
             found = best_of(one_form(book), basket)
-            ways = priced_ways(book, basket)
+            ways = priced_ways(one_form(book), basket, len(book["bundles"]), len(book["coupons"]))
             self.assertEqual(found[1], min(way[0] for way in ways))
             self.assertEqual(found, best_answer(min(ways, key=preference)))
 

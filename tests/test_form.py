@@ -155,6 +155,17 @@ class Form(unittest.TestCase):
                         self.assertIn(alias.name, there, path.name)
                         self.assertIsNone(alias.asname)
 
+    def test_no_two_files_draw_from_one_another(self):
+        drawn = {}
+        for path in FILES:
+            tree = ast.parse(path.read_text(encoding="ascii"))
+            drawn[path.stem] = {node.module.split(".")[1] for node in tree.body if isinstance(node, ast.ImportFrom)}
+        while drawn:
+            free = [name for name, others in drawn.items() if not others & set(drawn)]
+            self.assertNotEqual(free, [], sorted(drawn))
+            for name in free:
+                drawn.pop(name)
+
     def test_each_name_is_bound_once(self):
         for path in FILES:
             bound = []

@@ -1,8 +1,8 @@
-"""cost and cheap: what pieces cost, at every edge."""
+"""cost, cheap and pieces: what pieces cost, at every edge."""
 
 import unittest
 
-from tests.helper import CHEAP, COST, ask, ask_book, books, model_cost, one_form, read
+from tests.helper import CHEAP, COST, PIECES, ask, ask_book, books, model_cost, model_pieces, one_form, read
 
 
 def costs(text, first=0, last=40):
@@ -96,21 +96,86 @@ class Cheap(unittest.TestCase):
                 self.assertEqual(ask_book(one_form(book), *calls), [[0, m, cost] for cost, m in want])
 
 
+def each(text, n):
+    answer = ask_book(text, [PIECES, 1, n])[0]
+    if answer[0] != 0:
+        raise AssertionError(answer)
+    return answer[1:]
+
+
+class Pieces(unittest.TestCase):
+    def test_a_price_alone(self):
+        self.assertEqual([each("item a 7", n) for n in (0, 1, 3)], [[], [7], [7, 7, 7]])
+        self.assertEqual(each("item a 10000000", 40), [10000000] * 40)
+
+    def test_free(self):
+        text = "item a 10\nfree a 1 of 3"
+        wants = [[], [10], [10, 10], [10, 10, 0], [10, 10, 0, 10], [10, 10, 0, 10, 10], [10, 10, 0, 10, 10, 0]]
+        self.assertEqual([each(text, n) for n in range(7)], wants)
+        text = "item a 10\nfree a 3 of 5"
+        self.assertEqual(each(text, 4), [10] * 4)
+        self.assertEqual(each(text, 5), [10, 10, 0, 0, 0])
+        self.assertEqual(each(text, 9), [10, 10, 0, 0, 0] + [10] * 4)
+        self.assertEqual(each(text, 10), [10, 10, 0, 0, 0] * 2)
+        self.assertEqual(each("item a 10\nfree a 39 of 40", 39), [10] * 39)
+        self.assertEqual(each("item a 10\nfree a 39 of 40", 40), [10] + [0] * 39)
+        self.assertEqual(each("item a 10\nfree a 1 of 40", 40), [10] * 39 + [0])
+
+    def test_from(self):
+        text = "item a 10\nfrom a 3 8\nfrom a 5 9"
+        self.assertEqual([each(text, n) for n in (2, 3, 4, 5)], [[10] * 2, [8] * 3, [8] * 4, [9] * 5])
+
+    def test_step(self):
+        text = "item a 10\nstep a 3 8\nstep a 5 9\nstep a 40 1"
+        self.assertEqual(each(text, 2), [10, 10])
+        self.assertEqual(each(text, 6), [10, 10, 8, 8, 9, 9])
+        self.assertEqual(each(text, 40), [10, 10, 8, 8] + [9] * 35 + [1])
+
+    def test_free_with_from(self):
+        # The from line is reached by 3 paid pieces, so by 4 pieces.
+        text = "item a 10\nfrom a 3 6\nfree a 1 of 3"
+        self.assertEqual(each(text, 3), [10, 10, 0])
+        self.assertEqual(each(text, 4), [6, 6, 0, 6])
+        self.assertEqual(each(text, 6), [6, 6, 0, 6, 6, 0])
+
+    def test_free_with_step(self):
+        text = "item a 10\nstep a 3 6\nfree a 1 of 3"
+        self.assertEqual(each(text, 3), [10, 10, 0])
+        self.assertEqual(each(text, 7), [10, 10, 0, 6, 6, 0, 6])
+
+    def test_a_price_of_0_is_told_as_0(self):
+        self.assertEqual(each("item a 0\nstep a 2 5\nfree a 1 of 3", 4), [0, 5, 0, 5])
+
+    def test_together_they_are_what_cost_answers(self):
+        for book, chance in books(42, 60):
+            for number in range(1, len(book["items"]) + 1):
+                found = ask_book(one_form(book), *[[PIECES, number, n] for n in range(41)])
+                costs_told = ask_book(one_form(book), *[[COST, number, n] for n in range(41)])
+                self.assertEqual([len(answer) for answer in found], list(range(1, 42)))
+                self.assertEqual([sum(answer) for answer in found], [answer[1] for answer in costs_told])
+
+    def test_against_the_model(self):
+        for book, chance in books(43, 60):
+            for number, item in enumerate(book["items"], start=1):
+                found = ask_book(one_form(book), *[[PIECES, number, n] for n in range(41)])
+                self.assertEqual(found, [[0] + [cost or 0 for cost in model_pieces(item, n)] for n in range(41)])
+
+
 class Refusals(unittest.TestCase):
     def test_pieces_out_of_range_come_first(self):
-        for call in (COST, CHEAP):
+        for call in (COST, CHEAP, PIECES):
             for pieces in (-1, 41, -1000000000000000000, 1000000000000000000):
                 for item in (1, 0, 2, -1):
                     found = ask([call, item, pieces], read("item a 5"), [call, item, pieces])
                     self.assertEqual([found[0], found[2]], [[-1], [-1]])
 
     def test_no_book_comes_ahead_of_no_item(self):
-        for call in (COST, CHEAP):
+        for call in (COST, CHEAP, PIECES):
             for item in (1, 0, 2, -1, 1000000000000000000):
                 self.assertEqual(ask([call, item, 5]), [[-2]])
 
     def test_no_item_of_that_number(self):
-        for call in (COST, CHEAP):
+        for call in (COST, CHEAP, PIECES):
             for item in (0, -1, 3, 8, 1000000000000000000, -1000000000000000000):
                 self.assertEqual(ask_book("item a 5\nitem b 5", [call, item, 5]), [[-3]])
             self.assertEqual(ask_book("tax t 5 in\ncoupon c off 5", [call, 1, 5]), [[-3]])
@@ -120,6 +185,7 @@ class Refusals(unittest.TestCase):
     def test_both_edges_of_pieces(self):
         self.assertEqual(ask_book("item a 5", [COST, 1, 0], [COST, 1, 40]), [[0, 0, 0], [0, 200, 40]])
         self.assertEqual(ask_book("item a 5", [CHEAP, 1, 0], [CHEAP, 1, 40]), [[0, 0, 0], [0, 40, 200]])
+        self.assertEqual(ask_book("item a 5", [PIECES, 1, 0], [PIECES, 1, 40]), [[0], [0] + [5] * 40])
 
 
 if __name__ == "__main__":
